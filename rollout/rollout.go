@@ -1,0 +1,118 @@
+// Package rollout: a fleet that moves from release to release while its records stay readable: see DOC.md.
+package rollout
+
+import (
+	"rollout/api"
+	"rollout/schemas"
+)
+
+// Check tells whether a text is a schema (P3).
+func Check(schema string) api.Errno {
+	_, errno := typeOf(schema)
+	return errno
+}
+
+// Encode gives the data of a value's text (P4).
+func Encode(schema string, text string) (string, api.Errno) {
+	// Ahead of the schema: ErrLong is named before ErrSchema.
+	if len(text) > api.MaxText {
+		return "", api.ErrLong
+	}
+	t, errno := typeOf(schema)
+	if errno != api.OK {
+		return "", errno
+	}
+	data, ok := schemas.Encode(t, text)
+	if !ok {
+		return "", api.ErrText
+	}
+	if len(data) > api.MaxData {
+		return "", api.ErrBig
+	}
+	return data, api.OK
+}
+
+// Decode gives the text of a value's data (P5).
+func Decode(schema string, data string) (string, api.Errno) {
+	if len(data) > api.MaxData {
+		return "", api.ErrLong
+	}
+	t, errno := typeOf(schema)
+	if errno != api.OK {
+		return "", errno
+	}
+	text, ok := schemas.Decode(t, data)
+	if !ok {
+		return "", api.ErrData
+	}
+	return text, api.OK
+}
+
+// typeOf gives the type that a schema tells, or the error that Check answers.
+func typeOf(schema string) (schemas.Type, api.Errno) {
+	if len(schema) > api.MaxSchema {
+		return schemas.Type{}, api.ErrLong
+	}
+	t, ok := schemas.Parse(schema)
+	if !ok {
+		return schemas.Type{}, api.ErrSchema
+	}
+	return t, api.OK
+}
+
+// Read gives the text of what a value is read as (P6).
+func Read(writer string, reader string, data string) (string, api.Errno) { return "", api.OK }
+
+// Fits tells whether every value can be read (P7).
+func Fits(writer string, reader string) (string, api.Errno) { return "", api.OK }
+
+// CheckFleet tells whether a fleet is in order (P8).
+func CheckFleet(f api.Fleet) api.Errno { return api.OK }
+
+// Safe tells how many moves are safe (P9).
+func Safe(f api.Fleet, moves []api.Move) (int, api.Errno) { return 0, api.OK }
+
+// Plan finds the shortest safe list of moves (P10).
+func Plan(f api.Fleet, budget int) ([]api.Move, api.Errno) { return nil, api.OK }
+
+// Run is a list of moves that is worked off.
+type Run struct{}
+
+// Start begins a run (P11).
+func Start(f api.Fleet, moves []api.Move) (*Run, api.Errno) { return nil, api.OK }
+
+// State tells how far it is (P12).
+func (x *Run) State() api.State { return api.State{} }
+
+// Release tells the release that an instance has (P12).
+func (x *Run) Release(service int, instance int) (int, api.Errno) { return 0, api.OK }
+
+// Pending tells the messages in the list (P12).
+func (x *Run) Pending() []api.Message { return nil }
+
+// Tick lets a unit of time go by (P13).
+func (x *Run) Tick() {}
+
+// Deliver lets a message arrive (P14).
+func (x *Run) Deliver(k int) api.Errno { return api.OK }
+
+// Drop loses a message (P15).
+func (x *Run) Drop(k int) api.Errno { return api.OK }
+
+// Copy doubles a message (P15).
+func (x *Run) Copy(k int) api.Errno { return api.OK }
+
+// Produce writes a record into a topic (P16).
+func (x *Run) Produce(service int, instance int, topic int, text string) api.Errno { return api.OK }
+
+// View reads the records of a topic (P17).
+func (x *Run) View(service int, instance int, topic int) ([]string, api.Errno) { return nil, api.OK }
+
+// Abort turns back (P18).
+func (x *Run) Abort() api.Errno { return api.OK }
+
+// Pause holds the controller, or lets it go on (P19).
+func (x *Run) Pause(on bool) api.Errno { return api.OK }
+
+// Crash lets the controller lose what it has not written down (P20).
+func (x *Run) Crash() {}
