@@ -11,8 +11,8 @@ import (
 
 // answers are what the calls answer to a schema and a text or data.
 type answers struct {
-	check, encoded, decoded api.Errno
-	data, text              string
+	check, encoded, decoded, read, fits api.Errno
+	data, text, other, misfit           string
 }
 
 func ask(schema string, text string) answers {
@@ -20,6 +20,8 @@ func ask(schema string, text string) answers {
 	a.check = rollout.Check(schema)
 	a.data, a.encoded = rollout.Encode(schema, text)
 	a.text, a.decoded = rollout.Decode(schema, text)
+	a.other, a.read = rollout.Read(schema, "[?{a:?l}]", text)
+	a.misfit, a.fits = rollout.Fits(schema, "[?{a:?l}]")
 	return a
 }
 
@@ -37,6 +39,35 @@ func wantInBounds(t *testing.T, schema string, text string) {
 	bad = bad || a.encoded > api.ErrBig || a.decoded > api.ErrData || a.decoded == api.ErrText || a.decoded == api.ErrBig
 	if bad {
 		t.Errorf("%.70q with %.70q: %+v", schema, text, a)
+	}
+	// A value that is read as its own type stays itself.
+	wantRead(t, schema, schema, text, a.text, a.decoded)
+	wantFitsError(t, schema, schema, a.check)
+	wantPairInBounds(t, schema, text)
+	wantPairInBounds(t, text, schema)
+}
+
+// wantPairInBounds does so with the calls that take two schemas.
+func wantPairInBounds(t *testing.T, writer string, reader string) {
+	t.Helper()
+	// ErrLong of either goes ahead of ErrSchema.
+	want := api.OK
+	for _, errno := range []api.Errno{rollout.Check(writer), rollout.Check(reader)} {
+		if want == api.OK || errno == api.ErrLong {
+			want = errno
+		}
+	}
+	misfit, fits := rollout.Fits(writer, reader)
+	bad := fits != want && (want != api.OK || fits != api.ErrFit) || (misfit != "") != (fits == api.ErrFit)
+	for _, data := range []string{writer, reader, "\x00", "\x01\x00"} {
+		text, read := rollout.Read(writer, reader, data)
+		bad = bad || read != api.OK && text != ""
+		bad = bad || want != api.OK && read != want && (read != api.ErrLong || len(data) <= api.MaxData)
+		bad = bad || want == api.OK && len(data) <= api.MaxData && read != api.OK && read != api.ErrData && read != api.ErrRead
+		bad = bad || want == api.OK && fits == api.OK && read == api.ErrRead
+	}
+	if bad {
+		t.Errorf("%.70q as %.70q: Fits tells %q, %d", writer, reader, misfit, fits)
 	}
 }
 

@@ -61,10 +61,54 @@ func typeOf(schema string) (schemas.Type, api.Errno) {
 }
 
 // Read gives the text of what a value is read as (P6).
-func Read(writer string, reader string, data string) (string, api.Errno) { return "", api.OK }
+func Read(writer string, reader string, data string) (string, api.Errno) {
+	if len(data) > api.MaxData {
+		return "", api.ErrLong
+	}
+	w, r, errno := typesOf(writer, reader)
+	if errno != api.OK {
+		return "", errno
+	}
+	_, valid := schemas.Decode(w, data)
+	if !valid {
+		return "", api.ErrData
+	}
+	text, ok := schemas.Read(w, r, data)
+	if !ok {
+		return "", api.ErrRead
+	}
+	return text, api.OK
+}
 
 // Fits tells whether every value can be read (P7).
-func Fits(writer string, reader string) (string, api.Errno) { return "", api.OK }
+func Fits(writer string, reader string) (string, api.Errno) {
+	w, r, errno := typesOf(writer, reader)
+	if errno != api.OK {
+		return "", errno
+	}
+	text, found := schemas.Unreadable(w, r)
+	if found {
+		return text, api.ErrFit
+	}
+	return "", api.OK
+}
+
+// typesOf gives the types of a writer's and a reader's schema, or the error that they have.
+func typesOf(writer string, reader string) (schemas.Type, schemas.Type, api.Errno) {
+	// Of both ahead of either's ErrSchema: ErrLong is named first.
+	if len(writer) > api.MaxSchema || len(reader) > api.MaxSchema {
+		return schemas.Type{}, schemas.Type{}, api.ErrLong
+	}
+	w, errno := typeOf(writer)
+	if errno != api.OK {
+		return schemas.Type{}, schemas.Type{}, errno
+	}
+	r, errno := typeOf(reader)
+	if errno != api.OK {
+		return schemas.Type{}, schemas.Type{}, errno
+	}
+	return w, r, api.OK
+}
 
 // CheckFleet tells whether a fleet is in order (P8).
 func CheckFleet(f api.Fleet) api.Errno { return api.OK }

@@ -82,7 +82,7 @@ func parseRecord(text string, at int) (Type, int, bool) {
 	fields := []Field{}
 	for at < len(text) {
 		field, next, ok := parseField(text, at)
-		if !ok || hasField(fields, field.Letter) {
+		if !ok || placeOfField(fields, field.Letter) >= 0 {
 			return Type{}, at, false
 		}
 		fields = append(fields, field)
@@ -115,13 +115,4 @@ func parseField(text string, at int) (Field, int, bool) {
 		return Field{}, at, false
 	}
 	return Field{Letter: letter, Type: t, Default: span(text, next+1, end)}, end, true
-}
-
-func hasField(fields []Field, letter int) bool {
-	for _, field := range fields {
-		if field.Letter == letter {
-			return true
-		}
-	}
-	return false
 }

@@ -1,4 +1,4 @@
-// Package schemas: schemas, and how the values of their types are laid down as text and as data.
+// Package schemas: schemas, how the values of their types are laid down as text and as data, and how they are read as another type.
 package schemas
 
 // The kinds of types: each is the byte that a type of that kind begins with.
@@ -42,4 +42,14 @@ func (t Type) inner() Type {
 		return Type{}
 	}
 	return t.Inner[0]
+}
+
+// placeOfField answers the place of the field with a letter, or -1.
+func placeOfField(fields []Field, letter int) int {
+	for place, field := range fields {
+		if field.Letter == letter {
+			return place
+		}
+	}
+	return -1
 }

@@ -60,3 +60,34 @@ func TestNoType(t *testing.T) {
 		}
 	}
 }
+
+// Nor is anything read by one or as one; and data that are not a value's do no harm.
+func TestReadNoType(t *testing.T) {
+	types := []Type{{}, {Kind: 'x'}, {Kind: Choice}, {Kind: Maybe}, {Kind: List}, {Kind: Record}, {Kind: Record, Fields: []Field{{Letter: 'a'}}}, {Kind: Small}, {Kind: String}}
+	for _, writer := range types {
+		for _, reader := range types {
+			Unreadable(writer, reader)
+			for _, data := range []string{"", "\x00", "\x01", "\x01\x00", "\xff\xff"} {
+				text, ok := Read(writer, reader, data)
+				if !ok && text != "" {
+					t.Errorf("%+v as %+v with %x: %q", writer, reader, data, text)
+				}
+			}
+		}
+	}
+}
+
+// The data of an unreadable value are no more bytes than the writer's schema has.
+func TestUnreadableIsSmall(t *testing.T) {
+	for _, writer := range []string{"i", "?i", "[[?i]]", "<ab>", "{a:i,b:s,c:?[i],d:[?i],e:<xyz+>}"} {
+		for _, reader := range []string{"s", "?s", "[[i]]", "<b>", "{z:i}", "{a:s}", "{b:i}", "{c:[i]}", "{d:[i]}", "{e:<xy>}"} {
+			w, _ := Parse(writer)
+			r, _ := Parse(reader)
+			text, found := Unreadable(w, r)
+			data, ok := Encode(w, text)
+			if found && (!ok || len(data) > len(writer)) {
+				t.Errorf("%q as %q: %q with the data %x", writer, reader, text, data)
+			}
+		}
+	}
+}
