@@ -3,6 +3,7 @@ package rollout
 
 import (
 	"rollout/api"
+	"rollout/fleets"
 	"rollout/schemas"
 )
 
@@ -111,13 +112,50 @@ func typesOf(writer string, reader string) (schemas.Type, schemas.Type, api.Errn
 }
 
 // CheckFleet tells whether a fleet is in order (P8).
-func CheckFleet(f api.Fleet) api.Errno { return api.OK }
+func CheckFleet(f api.Fleet) api.Errno {
+	if !fleets.InOrder(f) {
+		return api.ErrFleet
+	}
+	return api.OK
+}
 
 // Safe tells how many moves are safe (P9).
-func Safe(f api.Fleet, moves []api.Move) (int, api.Errno) { return 0, api.OK }
+func Safe(f api.Fleet, moves []api.Move) (int, api.Errno) {
+	if !fleets.InOrder(f) {
+		return 0, api.ErrFleet
+	}
+	chart := fleets.ChartOf(f)
+	if !chart.AreMoves(moves) {
+		return 0, api.ErrMoves
+	}
+	if !chart.Sound() {
+		return 0, api.ErrStart
+	}
+	return chart.SafeMoves(moves), api.OK
+}
 
 // Plan finds the shortest safe list of moves (P10).
-func Plan(f api.Fleet, budget int) ([]api.Move, api.Errno) { return nil, api.OK }
+func Plan(f api.Fleet, budget int) ([]api.Move, api.Errno) {
+	if !fleets.InOrder(f) {
+		return nil, api.ErrFleet
+	}
+	if budget < 1 {
+		return nil, api.ErrArg
+	}
+	chart := fleets.ChartOf(f)
+	if !chart.Sound() {
+		return nil, api.ErrStart
+	}
+	tour := chart.Explore()
+	if tour.Situations() > budget {
+		return nil, api.ErrBudget
+	}
+	moves, found := tour.Shortest()
+	if !found {
+		return nil, api.ErrNone
+	}
+	return moves, api.OK
+}
 
 // Run is a list of moves that is worked off.
 type Run struct{}
