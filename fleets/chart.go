@@ -50,7 +50,7 @@ func ChartOf(f api.Fleet) Chart {
 
 // placeOf answers the place of a service's release, or -1, if no fleet has such a one.
 func placeOf(service int, release int) int {
-	if !isNumber(service, api.MaxServices) || !isNumber(release, api.MaxReleases) {
+	if !IsNumber(service, api.MaxServices) || !IsNumber(release, api.MaxReleases) {
 		return -1
 	}
 	return service*api.MaxReleases + release
@@ -93,7 +93,7 @@ func compare(topics []api.Topic, readable table, a []api.Pin, b []api.Pin) (bool
 				continue
 			}
 			along = false
-			if isNumber(p.Topic, len(topics)) && topics[p.Topic].Keep == 0 {
+			if IsNumber(p.Topic, len(topics)) && topics[p.Topic].Keep == 0 {
 				forEver = false
 			}
 		}
@@ -111,7 +111,7 @@ func canRead(readable table, writes int, reads int) bool {
 	if writes == -1 || reads == -1 {
 		return true
 	}
-	if !isNumber(writes, api.MaxSchemas) || !isNumber(reads, api.MaxSchemas) {
+	if !IsNumber(writes, api.MaxSchemas) || !IsNumber(reads, api.MaxSchemas) {
 		return false
 	}
 	return readable[writes][reads]

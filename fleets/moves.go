@@ -62,11 +62,11 @@ func (c Chart) SafeMoves(moves []api.Move) int {
 
 // isMove tells whether a service can be taken to the release at a place.
 func (c Chart) isMove(now situation, place int) bool {
-	return isNumber(place, places) && c.there[place] && !now.has[place]
+	return IsNumber(place, places) && c.there[place] && !now.has[place]
 }
 
 func (c Chart) isSafe(now situation, place int) bool {
-	if !isNumber(place, places) || !c.along[place][place] {
+	if !IsNumber(place, places) || !c.along[place][place] {
 		return false
 	}
 	return allAlong(now.has, c.along[place]) && allAlong(now.had, c.forEver[place])
@@ -74,7 +74,7 @@ func (c Chart) isSafe(now situation, place int) bool {
 
 // after answers the situation that is left when a service was taken to the release at a place.
 func (now situation) after(place int) situation {
-	if !isNumber(place, places) {
+	if !IsNumber(place, places) {
 		return now
 	}
 	service := moveTo(place).Service

@@ -53,7 +53,7 @@ func serviceInOrder(f api.Fleet, service api.Service) bool {
 	if service.Size < 1 || service.Size > api.MaxSize || count < 1 || count > api.MaxReleases {
 		return false
 	}
-	if !isNumber(service.Now, count) || !isNumber(service.Want, count) {
+	if !IsNumber(service.Now, count) || !IsNumber(service.Want, count) {
 		return false
 	}
 	for _, release := range service.Releases {
@@ -78,9 +78,9 @@ func pinsInOrder(f api.Fleet, pins []api.Pin) bool {
 
 func pinInOrder(f api.Fleet, pin api.Pin) bool {
 	count := len(f.Schemas)
-	writes := pin.Writes == -1 || isNumber(pin.Writes, count)
-	reads := pin.Reads == -1 || isNumber(pin.Reads, count)
-	return isNumber(pin.Topic, len(f.Topics)) && writes && reads
+	writes := pin.Writes == -1 || IsNumber(pin.Writes, count)
+	reads := pin.Reads == -1 || IsNumber(pin.Reads, count)
+	return IsNumber(pin.Topic, len(f.Topics)) && writes && reads
 }
 
 // isForTopic tells whether one of the pins is for a topic.
@@ -93,7 +93,7 @@ func isForTopic(pins []api.Pin, topic int) bool {
 	return false
 }
 
-// isNumber tells whether n is the number of one of so many things.
-func isNumber(n int, count int) bool {
+// IsNumber tells whether n is the number of one of so many things.
+func IsNumber(n int, count int) bool {
 	return n >= 0 && n < count
 }

@@ -102,6 +102,9 @@ func wantNoOrder(t *testing.T, what string, f api.Fleet) {
 		if n, errno := rollout.Safe(f, moves); n != 0 || errno != api.ErrFleet {
 			t.Errorf("%s: Safe = %d, %d, want ErrFleet", what, n, errno)
 		}
+		if x, errno := rollout.Start(f, moves); x != nil || errno != api.ErrFleet {
+			t.Errorf("%s: Start = %v, %d, want ErrFleet", what, x, errno)
+		}
 	}
 	for _, budget := range []int{math.MinInt, 0, 1, 512} {
 		if moves, errno := rollout.Plan(f, budget); moves != nil || errno != api.ErrFleet {

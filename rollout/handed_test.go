@@ -45,6 +45,26 @@ func print(f api.Fleet, moves []api.Move) string {
 	return text
 }
 
+// wreck writes over all that stands in a fleet and in a list of moves, and in the spare room.
+func wreck(f api.Fleet, moves []api.Move) {
+	for _, service := range whole(f.Services) {
+		for _, release := range whole(service.Releases) {
+			overwrite(release.Pins, api.Pin{Topic: -7, Writes: -7, Reads: -7})
+		}
+		overwrite(service.Releases, api.Release{})
+	}
+	overwrite(f.Services, api.Service{Size: -7, Now: -7})
+	overwrite(f.Topics, api.Topic{Keep: -7})
+	overwrite(f.Schemas, "wrecked")
+	overwrite(moves, api.Move{Service: -7, To: -7})
+}
+
+func overwrite[T any](list []T, with T) {
+	for k := range whole(list) {
+		whole(list)[k] = with
+	}
+}
+
 // P2: nothing that is handed in is written into, nor its spare room; and the spare room changes no answer.
 func TestHandedInFleet(t *testing.T) {
 	m := maker{rand.New(rand.NewSource(12))}
@@ -119,4 +139,50 @@ func TestFleetIsNotKept(t *testing.T) {
 	f.Topics[0].Keep = 2
 	f.Schemas[1] = "{a:l}"
 	wantPlan(t, f, 6, list([2]int{1, 1}, [2]int{0, 1}))
+}
+
+// P2: the lists of messages and of records are the caller's, with their spare room: what is written there changes neither the run nor another list.
+func TestRunListsAreFresh(t *testing.T) {
+	for n := 0; n <= 20; n++ {
+		x := exampleRun(t)
+		var messages []api.Message
+		var texts []string
+		for k := 0; k < n; k++ {
+			x.Tick()
+			messages = append(messages, command(k+1, 1, 0, 1))
+		}
+		for k := 0; k < min(n, api.MaxRecords); k++ {
+			wantProduce(t, x, 0, 0, 0, "{a:3}", api.OK)
+			texts = append(texts, "{a:3}")
+		}
+		var lists [][]api.Message
+		var views [][]string
+		for k := 0; k < 3; k++ {
+			view, _ := x.View(1, k%2, 0)
+			lists = append(lists, whole(x.Pending()))
+			views = append(views, whole(view))
+		}
+		for k := range lists {
+			overwrite(lists[k], api.Message{Kind: k + 7})
+			overwrite(views[k], string(rune('k'+k)))
+			wantPending(t, x, messages...)
+			wantView(t, x, 1, 0, 0, texts...)
+		}
+		// What joins behind them does not come into their room, nor go from it.
+		x.Tick()
+		wantProduce(t, x, 0, 0, 0, "{a:4}", []api.Errno{api.OK, api.ErrFull}[n/api.MaxRecords%2])
+		for k := range lists {
+			for _, message := range lists[k] {
+				if (message != api.Message{Kind: k + 7}) {
+					t.Errorf("list %d of %d messages shares room", k, n)
+				}
+			}
+			for _, text := range views[k] {
+				if text != string(rune('k'+k)) {
+					t.Errorf("view %d of %d records shares room", k, n)
+				}
+			}
+		}
+		wantPending(t, x, append(messages, command(n+1, 1, 0, 1))...)
+	}
 }

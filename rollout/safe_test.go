@@ -18,12 +18,19 @@ func list(pairs ...[2]int) []api.Move {
 	return moves
 }
 
-// wantSafe fails the test unless so many moves are safe, or there is this error.
+// wantSafe fails the test unless so many moves are safe, or there is this error; and unless a run starts just with safe moves.
 func wantSafe(t *testing.T, f api.Fleet, moves []api.Move, want int, wantErrno api.Errno) {
 	t.Helper()
 	n, errno := rollout.Safe(f, moves)
 	if n != want || errno != wantErrno {
 		t.Errorf("Safe(%+v, %v) = %d, %d, want %d, %d", f, moves, n, errno, want, wantErrno)
+	}
+	if wantErrno == api.OK && want < len(moves) {
+		wantErrno = api.ErrUnsafe
+	}
+	x, errno := rollout.Start(f, moves)
+	if errno != wantErrno || (x == nil) != (errno != api.OK) {
+		t.Errorf("Start(%+v, %v) = %v, %d, want %d", f, moves, x, errno, wantErrno)
 	}
 }
 
