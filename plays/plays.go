@@ -61,7 +61,32 @@ func serviceOf(given api.Service) service {
 // State tells how far the play is.
 func (p *Play) State() api.State {
 	c := p.controller
-	return api.State{Stage: c.stage, At: c.at, Time: p.time, Number: c.number, Works: c.works}
+	return api.State{Stage: c.stage, At: c.at, Time: p.time, Number: c.number, Works: c.works, Paused: c.paused}
+}
+
+// IsOver tells whether the controller has arrived or returned.
+func (p *Play) IsOver() bool {
+	return p.controller.isOver()
+}
+
+// IsBack tells whether the controller is on its way back.
+func (p *Play) IsBack() bool {
+	return p.controller.stage == api.Back
+}
+
+// TurnBack takes the controller from its way forth to its way back.
+func (p *Play) TurnBack() {
+	p.controller.turnBack()
+}
+
+// Pause holds the controller, or lets it go on.
+func (p *Play) Pause(on bool) {
+	p.controller.paused = on
+}
+
+// Crash lets the controller lose what it has not written down.
+func (p *Play) Crash() {
+	p.controller.crash(p.time)
 }
 
 // Tick lets a unit of time go by.

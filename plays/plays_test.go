@@ -16,11 +16,18 @@ func TestNoOrder(t *testing.T) {
 		f := api.Fleet{Schemas: []string{"??"}, Topics: []api.Topic{{Keep: n}}, Services: []api.Service{service, {Size: n}}}
 		for _, moves := range [][]api.Move{{{Service: n, To: n}, {Service: 0, To: n}}, {{Service: 1, To: n}}} {
 			p := Begin(f, moves)
-			for k := 0; k < 50; k++ {
+			for k := 0; k < 80; k++ {
 				p.Tick()
 				message, found := p.Take(0)
 				if found {
 					p.Arrive(message)
+				}
+				// Even where it is over, or on its way back already.
+				if k > 40 && k%3 == 0 {
+					p.TurnBack()
+				}
+				if k > 60 {
+					p.Crash()
 				}
 			}
 			for _, topic := range numbers {
@@ -48,6 +55,40 @@ func TestStrayMessages(t *testing.T) {
 	release, _ := p.Release(0, 0)
 	if p.State() != before || release != 0 || len(p.Pending()) != 1 {
 		t.Errorf("%+v, release %d, %+v", p.State(), release, p.Pending())
+	}
+}
+
+// A task has the release that its service had ahead of the move, whatever other services did meanwhile.
+func TestTasks(t *testing.T) {
+	services := []api.Service{{Size: 2, Now: 2}, {Size: 1, Now: 1}}
+	moves := []api.Move{{Service: 0, To: 1}, {Service: 1, To: 0}, {Service: 0, To: 0}, {Service: 0, To: 2}, {Service: 1, To: 1}}
+	want := []task{{0, 2, 2, 1}, {1, 1, 1, 0}, {0, 2, 1, 0}, {0, 2, 0, 2}, {1, 1, 0, 1}}
+	tasks := tasksOf(services, moves)
+	if len(tasks) != len(want) {
+		t.Fatalf("%+v", tasks)
+	}
+	for k, task := range tasks {
+		if task != want[k] {
+			t.Errorf("task %d is %+v, want %+v", k, task, want[k])
+		}
+	}
+}
+
+// On the way back the task is the one ahead of the place, with the release from before.
+func TestCurrentTask(t *testing.T) {
+	c := controller{tasks: []task{{0, 2, 2, 1}, {1, 3, 1, 0}}, stage: api.Going}
+	forth := []task{{}, {0, 2, 2, 1}, {1, 3, 1, 0}, {}, {}}
+	back := []task{{}, {}, {0, 2, 2, 2}, {1, 3, 1, 1}, {}}
+	for k := range forth {
+		c.at = k - 1
+		c.stage = api.Going
+		if task := c.currentTask(); task != forth[k] {
+			t.Errorf("forth at %d: %+v", c.at, task)
+		}
+		c.stage = api.Back
+		if task := c.currentTask(); task != back[k] {
+			t.Errorf("back at %d: %+v", c.at, task)
+		}
 	}
 }
 

@@ -122,10 +122,27 @@ func (x *Run) has(service int, instance int, topic int) bool {
 }
 
 // Abort turns back (P18).
-func (x *Run) Abort() api.Errno { return api.OK }
+func (x *Run) Abort() api.Errno {
+	if x.play.IsOver() {
+		return api.ErrOver
+	}
+	if x.play.IsBack() {
+		return api.ErrBack
+	}
+	x.play.TurnBack()
+	return api.OK
+}
 
 // Pause holds the controller, or lets it go on (P19).
-func (x *Run) Pause(on bool) api.Errno { return api.OK }
+func (x *Run) Pause(on bool) api.Errno {
+	if x.play.IsOver() {
+		return api.ErrOver
+	}
+	x.play.Pause(on)
+	return api.OK
+}
 
 // Crash lets the controller lose what it has not written down (P20).
-func (x *Run) Crash() {}
+func (x *Run) Crash() {
+	x.play.Crash()
+}

@@ -21,6 +21,7 @@ type modelRun struct {
 	releases, highests map[[2]int]int // by service and instance
 	list               []api.Message
 	written            []modelRecord // all that ever were
+	aborted            bool
 }
 
 type modelRecord struct {
@@ -50,13 +51,31 @@ func (m *modelRun) rest() int {
 	return rest
 }
 
+func (m *modelRun) over() bool {
+	return m.state.Stage == api.Arrived || m.state.Stage == api.Returned
+}
+
+// next tells the service of the next move to work at, and the release that its instances are to have.
+func (m *modelRun) next() (int, int) {
+	if m.state.Stage == api.Going {
+		return m.moves[m.state.At].Service, m.moves[m.state.At].To
+	}
+	ahead := m.state.At - 1
+	service := m.moves[ahead].Service
+	return service, modelAfter(m.f, m.moves[:ahead]).has[service]
+}
+
+func (m *modelRun) beginToWork() {
+	m.state.Works, m.base, m.answered = true, m.state.Number, map[int]bool{}
+}
+
 func (m *modelRun) tick() {
 	m.state.Time++
-	if m.state.Stage != api.Going {
+	if m.state.Paused || m.over() {
 		return
 	}
 	if !m.state.Works && m.until <= m.state.Time {
-		m.state.Works, m.base, m.answered = true, m.state.Number, map[int]bool{}
+		m.beginToWork()
 	}
 	if !m.state.Works {
 		return
@@ -66,9 +85,9 @@ func (m *modelRun) tick() {
 		instance++
 	}
 	m.state.Number++
-	move := m.moves[m.state.At]
+	service, release := m.next()
 	if len(m.list) < 40 {
-		m.list = append(m.list, command(m.state.Number, move.Service, instance, move.To))
+		m.list = append(m.list, command(m.state.Number, service, instance, release))
 	}
 }
 
@@ -93,16 +112,65 @@ func (m *modelRun) deliver(k int) api.Errno {
 	}
 	if m.state.Works && message.Number > m.base {
 		m.answered[message.Instance] = true
-		if len(m.answered) == m.f.Services[m.moves[m.state.At].Service].Size {
-			m.state.Works = false
-			m.state.At++
-			m.until = m.state.Time + m.rest()
-			if m.state.At == len(m.moves) {
-				m.state.Stage = api.Arrived
-			}
+		service, _ := m.next()
+		if len(m.answered) == m.f.Services[service].Size {
+			m.moveIsDone()
 		}
 	}
 	return api.OK
+}
+
+func (m *modelRun) moveIsDone() {
+	m.state.Works = false
+	m.until = m.state.Time + m.rest()
+	if m.state.Stage == api.Going {
+		m.state.At++
+		if m.state.At == len(m.moves) {
+			m.state.Stage = api.Arrived
+		}
+		return
+	}
+	m.state.At--
+	if m.state.At == 0 {
+		m.state.Stage = api.Returned
+	}
+}
+
+func (m *modelRun) abort() api.Errno {
+	if m.over() {
+		return api.ErrOver
+	}
+	if m.state.Stage == api.Back {
+		return api.ErrBack
+	}
+	m.aborted = true
+	m.state.Stage = api.Back
+	if m.state.Works {
+		m.state.At++
+		m.beginToWork()
+	} else if m.state.At == 0 {
+		m.state.Stage = api.Returned
+	}
+	return api.OK
+}
+
+func (m *modelRun) pause(on bool) api.Errno {
+	if m.over() {
+		return api.ErrOver
+	}
+	m.state.Paused = on
+	return api.OK
+}
+
+func (m *modelRun) crash() {
+	if m.over() {
+		return
+	}
+	if m.state.Works {
+		m.beginToWork()
+	} else {
+		m.until = m.state.Time + m.rest()
+	}
 }
 
 func (m *modelRun) drop(k int) api.Errno {
@@ -237,6 +305,7 @@ func (w *twin) compareInstance(s int, instance int) {
 		}
 		if len(want) > 0 {
 			w.seen["read"]++
+			w.seen[fmt.Sprint("read in stage ", w.model.state.Stage)]++
 		}
 	}
 }
@@ -248,7 +317,7 @@ func (w *twin) fail(format string, parts ...any) {
 
 func (w *twin) tick() {
 	w.t.Helper()
-	if len(w.model.list) == 40 && w.model.state.Works {
+	if len(w.model.list) == 40 && w.model.state.Works && !w.model.state.Paused {
 		w.seen["lost"]++
 	}
 	w.x.Tick()
@@ -261,14 +330,37 @@ func (w *twin) deliver(k int) {
 	w.did(fmt.Sprint("Deliver ", k), w.x.Deliver(k), w.model.deliver(k))
 }
 
-// step does something, with habits of which some lose much, some double much, some write much.
-func (w *twin) step(m maker, habits [5]int) {
+func (w *twin) abort() {
+	w.t.Helper()
+	w.seen[fmt.Sprint("abort at work ", w.model.state.Works)]++
+	w.did("Abort", w.x.Abort(), w.model.abort())
+}
+
+func (w *twin) pause(on bool) {
+	w.t.Helper()
+	w.did(fmt.Sprint("Pause ", on), w.x.Pause(on), w.model.pause(on))
+}
+
+func (w *twin) crash() {
+	w.t.Helper()
+	w.seen[fmt.Sprintf("crash in stage %d at work %t", w.model.state.Stage, w.model.state.Works)]++
+	w.x.Crash()
+	w.model.crash()
+	w.did("Crash", api.OK, api.OK)
+}
+
+// step does something, with habits of which some lose much, some double much, some write much, some turn back, pause and crash.
+func (w *twin) step(m maker, habits [8]int) {
 	w.t.Helper()
 	k := m.Intn(len(w.model.list)+2) - 1
 	if len(w.model.list) > 0 && m.Intn(8) > 0 {
 		k = m.Intn(len(w.model.list))
 	}
-	n := m.Intn(habits[0] + habits[1] + habits[2] + habits[3] + habits[4])
+	sum := 0
+	for _, habit := range habits {
+		sum += habit
+	}
+	n := m.Intn(sum)
 	what := 0
 	for ; n >= habits[what]; what++ {
 		n -= habits[what]
@@ -284,6 +376,12 @@ func (w *twin) step(m maker, habits [5]int) {
 		w.did(fmt.Sprint("Copy ", k), w.x.Copy(k), w.model.double(k))
 	case 4:
 		w.produce(m)
+	case 5:
+		w.abort()
+	case 6:
+		w.pause(m.Intn(3) == 0)
+	case 7:
+		w.crash()
 	}
 }
 
@@ -315,8 +413,11 @@ func (w *twin) produce(m maker) {
 // quiet makes quiet rounds until the run is over, and fails the test if they are too many or lead elsewhere.
 func (w *twin) quiet() {
 	w.t.Helper()
+	if w.model.state.Paused {
+		w.pause(false)
+	}
 	bound := (len(w.model.moves) + 1) * (api.MaxSize + api.MaxKeep)
-	for rounds := 0; w.model.state.Stage == api.Going; rounds++ {
+	for rounds := 0; !w.model.over(); rounds++ {
 		if rounds == bound {
 			w.fail("after %d quiet rounds: %+v", rounds, w.model.state)
 		}
@@ -325,7 +426,14 @@ func (w *twin) quiet() {
 		}
 		w.tick()
 	}
-	has := modelAfter(w.model.f, w.model.moves).has
+	stage, moves := api.Arrived, w.model.moves
+	if w.model.aborted {
+		stage, moves = api.Returned, nil
+	}
+	if w.model.state.Stage != stage {
+		w.fail("it ends in stage %d, want %d", w.model.state.Stage, stage)
+	}
+	has := modelAfter(w.model.f, moves).has
 	for at, release := range w.model.releases {
 		if release != has[at[0]] {
 			w.fail("%v has release %d, want %v", at, release, has)
@@ -355,14 +463,25 @@ func (m maker) safeMoves(f api.Fleet, bound int) []api.Move {
 	return moves
 }
 
-// habits tell how often a run ticks, delivers, drops, copies and writes.
-var habits = [][5]int{{4, 8, 0, 0, 4}, {4, 10, 1, 2, 4}, {3, 3, 1, 1, 8}, {6, 4, 2, 1, 2}, {5, 3, 1, 6, 2}, {6, 14, 1, 8, 3}}
+// habits tell how often a run ticks, delivers, drops, copies, writes, turns back, pauses and crashes.
+var habits = [][8]int{
+	{40, 80, 0, 0, 40, 0, 0, 0}, {40, 100, 10, 20, 40, 0, 0, 0}, {30, 30, 10, 10, 80, 0, 0, 0}, {60, 40, 20, 10, 20, 0, 0, 0}, {50, 30, 10, 60, 20, 0, 0, 0}, {60, 140, 10, 80, 30, 0, 0, 0},
+	{40, 80, 0, 0, 40, 1, 0, 0}, {40, 100, 10, 20, 40, 2, 5, 5}, {30, 30, 10, 10, 80, 1, 2, 4}, {60, 40, 20, 10, 20, 3, 20, 1}, {50, 30, 10, 60, 20, 2, 2, 10}, {60, 140, 10, 80, 30, 2, 3, 2},
+}
 
 // twin makes a fleet with safe moves, mostly more than one, and a run of them with its model.
 func (m maker) twin(t *testing.T, seen map[string]int) *twin {
 	t.Helper()
 	for {
 		f := m.fleet()
+		switch m.Intn(6) {
+		// In these the records of one release can't be read by another one, so that much hangs on the rest.
+		case 0:
+			f = exampleFleet(1 + m.Intn(api.MaxKeep))
+		case 1:
+			f = roundabout(0, 1+m.Intn(2))
+			f.Services[0].Size = 1 + m.Intn(api.MaxSize)
+		}
 		if !modelSound(f) {
 			continue
 		}
@@ -382,11 +501,11 @@ func (m maker) twin(t *testing.T, seen map[string]int) *twin {
 	}
 }
 
-// P11 to P17, and P21 on the way forth: runs in which anything happens, and at each moment each instance can read each record.
+// P11 to P21: runs in which anything happens, and at each moment each instance can read each record.
 func TestRunAsModel(t *testing.T) {
 	m := maker{rand.New(rand.NewSource(11))}
 	seen := map[string]int{}
-	for runs := 0; runs < 300; runs++ {
+	for runs := 0; runs < 600; runs++ {
 		w := m.twin(t, seen)
 		habit := habits[m.Intn(len(habits))]
 		for steps := m.Intn(400); steps > 0; steps-- {
@@ -399,6 +518,8 @@ func TestRunAsModel(t *testing.T) {
 	for what, least := range map[string]int{
 		"Tick 0": 5000, "lost": 500, "Deliver 0": 5000, "Deliver 11": 200, "Drop 0": 500, "Drop 11": 200, "Copy 0": 1000, "Copy 11": 200, "Copy 16": 500,
 		"Produce 0": 1000, "Produce 3": 50, "Produce 11": 200, "Produce 15": 1000, "Produce 16": 100, "read": 20000, "stage 1": 50, "stage 3": 50, "moved": 300,
+		"Abort 0": 100, "Abort 17": 50, "Abort 18": 20, "abort at work true": 50, "abort at work false": 50, "Pause 0": 200, "Pause 17": 100, "stage 2": 10, "stage 4": 50, "read in stage 2": 5000,
+		"crash in stage 1 at work true": 50, "crash in stage 1 at work false": 50, "crash in stage 2 at work true": 20, "crash in stage 2 at work false": 20, "crash in stage 3 at work false": 20, "crash in stage 4 at work false": 20,
 	} {
 		if seen[what] < least {
 			t.Errorf("%q came %d times, want %d", what, seen[what], least)
@@ -440,6 +561,18 @@ func TestRunUnseen(t *testing.T) {
 			w.deliver(message)
 			w.deliver(0)
 			w.did("Produce 0 0 0 5", w.x.Produce(0, 0, 0, "5"), w.model.produce(0, 0, 0, "5"))
+			switch m.Intn(60) {
+			case 0:
+				unseen.Abort()
+				w.abort()
+			case 1:
+				unseen.Crash()
+				w.crash()
+			case 2, 3:
+				on := m.Intn(2) == 0
+				unseen.Pause(on)
+				w.pause(on)
+			}
 		}
 		w.x = unseen
 		w.did("Look", api.OK, api.OK)
